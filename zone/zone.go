@@ -1,0 +1,34 @@
+// Package zone: a small name server: messages as bytes, a zone out of news about nodes, answers. See DOC.md.
+package zone
+
+import (
+	"zone/api"
+	"zone/wire"
+)
+
+// Parse reads a message (P3 to P5).
+func Parse(b string) (api.Message, api.Errno) { return wire.Parse(b) }
+
+// Serialize writes a message (P7 to P9).
+func Serialize(m api.Message) (string, api.Errno) { return "", api.OK }
+
+// Frame writes messages one behind the other, as a stream (P10).
+func Frame(l []string) (string, api.Errno) { return "", api.OK }
+
+// Feed takes a stream, in chunks.
+type Feed struct{}
+
+// NewFeed: nothing has come yet (P11).
+func NewFeed() *Feed { return nil }
+
+// Push takes a chunk, and tells the messages that are whole with it (P11).
+func (x *Feed) Push(chunk string) []string { return nil }
+
+// Left tells how many bytes are held (P11).
+func (x *Feed) Left() int { return 0 }
+
+// Records tells the zone's records (P12, P13).
+func Records(l []api.Event) []api.Record { return nil }
+
+// Respond tells the bytes that answer q, or the empty string (P14 to P18).
+func Respond(l []api.Event, q string, stream bool) string { return "" }
