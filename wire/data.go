@@ -10,14 +10,24 @@ const (
 	headSRV  = 6  // ahead of the name
 )
 
+// namesIn tells how many names with which data of the type begin may have a
+// pointer, and how many bytes are behind them.
+func namesIn(kind int) (int, int) {
+	switch kind {
+	case api.TypeNS, api.TypeCNAME, api.TypePTR:
+		return 1, 0
+	case api.TypeSOA:
+		return 2, restSOA
+	}
+	return 0, 0
+}
+
 // wholeData gives the data raw, which stand in b at the offset at, with their
 // names whole; or false, if they are not as the type says (P5).
 func wholeData(b string, at int, raw string, kind int) (string, bool) {
-	switch kind {
-	case api.TypeNS, api.TypeCNAME, api.TypePTR:
-		return wholeNames(b, at, len(raw), 1, 0)
-	case api.TypeSOA:
-		return wholeNames(b, at, len(raw), 2, restSOA)
+	names, rest := namesIn(kind)
+	if names > 0 {
+		return wholeNames(b, at, len(raw), names, rest)
 	}
 	if !fitsPlain(raw, kind) {
 		return "", false

@@ -23,9 +23,6 @@ func TestExamples(t *testing.T) {
 
 func TestP3AllParts(t *testing.T) {
 	www, svc, mesh := name("www", "Svc", "mesh"), name("Svc", "mesh"), name("mesh")
-	rec := func(name string, kind int, data string) api.Record {
-		return api.Record{Name: name, Type: kind, Class: 1, TTL: 9, Data: data}
-	}
 	wantMessage(t, "P3: all parts", rich(), api.Message{
 		ID: 0x1234, Flags: 0x8180,
 		Questions: []api.Question{

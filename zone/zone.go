@@ -10,7 +10,7 @@ import (
 func Parse(b string) (api.Message, api.Errno) { return wire.Parse(b) }
 
 // Serialize writes a message (P7 to P9).
-func Serialize(m api.Message) (string, api.Errno) { return "", api.OK }
+func Serialize(m api.Message) (string, api.Errno) { return wire.Serialize(m) }
 
 // Frame writes messages one behind the other, as a stream (P10).
 func Frame(l []string) (string, api.Errno) { return "", api.OK }
