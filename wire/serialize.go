@@ -1,6 +1,9 @@
 package wire
 
-import "zone/api"
+import (
+	"zone/api"
+	"zone/number"
+)
 
 // Serialize writes a message (P7).
 func Serialize(m api.Message) (string, api.Errno) {
@@ -54,8 +57,8 @@ func (w *writer) record(x api.Record) {
 	w.name(x.Name)
 	w.word(x.Type)
 	w.word(x.Class)
-	w.word(x.TTL / (api.MaxWord + 1))
-	w.word(x.TTL % (api.MaxWord + 1))
+	life := number.Long(x.TTL)
+	w.bytes(life)
 	at := len(w.b) + 2
 	data := w.shortData(x.Data, x.Type, at)
 	w.word(len(data))

@@ -1,6 +1,9 @@
 package wire
 
-import "zone/api"
+import (
+	"zone/api"
+	"zone/number"
+)
 
 // tail is a tail that is known, and the offset at which it is (P8).
 type tail struct {
@@ -21,7 +24,7 @@ func (w *writer) bytes(s string) {
 
 // word writes a number of two bytes.
 func (w *writer) word(n int) {
-	s := word(n)
+	s := number.Word(n)
 	w.bytes(s)
 }
 
@@ -32,11 +35,6 @@ func (w *writer) name(name string) {
 	w.bytes(s)
 }
 
-// word gives a number as two bytes, the high byte first.
-func word(n int) string {
-	return string([]byte{byte(n / 256), byte(n % 256)})
-}
-
 // short gives the bytes of a short name that is written at the offset at, and
 // makes its tails known (P8).
 func (w *writer) short(name string, at int) string {
@@ -45,7 +43,7 @@ func (w *writer) short(name string, at int) string {
 		rest := name[from:]
 		to := w.find(rest)
 		if to >= 0 {
-			return name[:from] + word(256*firstPointer+to)
+			return name[:from] + number.Word(256*firstPointer+to)
 		}
 		// No tail of this name is as long as another one of it, so what
 		// becomes known here is not found again before the next name.
