@@ -2,6 +2,7 @@
 package zone
 
 import (
+	"zone/answer"
 	"zone/api"
 	"zone/mesh"
 	"zone/stream"
@@ -45,4 +46,4 @@ func (x *Feed) Left() int {
 func Records(l []api.Event) []api.Record { return mesh.Records(l) }
 
 // Respond tells the bytes that answer q, or the empty string (P14 to P18).
-func Respond(l []api.Event, q string, stream bool) string { return "" }
+func Respond(l []api.Event, q string, stream bool) string { return answer.Respond(l, q, stream) }
